@@ -10,32 +10,8 @@ import (
 
 	"moneyer/api"
 	"moneyer/field"
+	"moneyer/samples"
 )
-
-// source yields the same numbers in every run.
-type source uint64
-
-func (s *source) below(n int) int {
-	*s = *s*6364136223846793005 + 1442695040888963407
-	return int(uint64(*s>>33) % uint64(n))
-}
-
-func (s *source) bytes(n int) []byte {
-	b := make([]byte, n)
-	for i := range b {
-		b[i] = byte(s.below(256))
-	}
-	return b
-}
-
-func unhex(t *testing.T, s string) []byte {
-	t.Helper()
-	b, err := hex.DecodeString(s)
-	if err != nil {
-		t.Fatal(err)
-	}
-	return b
-}
 
 func cipher(t *testing.T, key []byte) *Key {
 	t.Helper()
@@ -194,7 +170,7 @@ func TestRoundsOfALongKey(t *testing.T) {
 
 func areRounds(t *testing.T, key string, want []string) {
 	t.Helper()
-	l := cipher(t, unhex(t, key)).Rounds()
+	l := cipher(t, samples.Hex(key)).Rounds()
 	if len(l) != len(want) {
 		t.Fatalf("%d round keys; want %d", len(l), len(want))
 	}
@@ -206,10 +182,10 @@ func areRounds(t *testing.T, key string, want []string) {
 }
 
 func TestRoundsAgreeWithTheDefinition(t *testing.T) {
-	from := source(41)
+	from := samples.New(41)
 	for range 100 {
 		for _, n := range []int{16, 32} {
-			key := from.bytes(n)
+			key := from.Bytes(n)
 			if l := cipher(t, key).Rounds(); !sameRounds(l, slowRounds(key)) {
 				t.Fatalf("round keys of % x: % x", key, l)
 			}
@@ -226,9 +202,9 @@ func TestRoundsAgreeWithTheDefinition(t *testing.T) {
 }
 
 func TestRoundsBeginWithTheKey(t *testing.T) {
-	from := source(42)
+	from := samples.New(42)
 	for _, n := range []int{16, 32} {
-		key := from.bytes(n)
+		key := from.Bytes(n)
 		l := cipher(t, key).Rounds()
 		if len(l) != n/4+7 || !bytes.Equal(bytes.Join(l[:n/16], nil), key) {
 			t.Errorf("round keys of % x: % x", key, l)
@@ -253,25 +229,25 @@ func TestKnownBlocks(t *testing.T) {
 		{long, "f69f2445df4f9b17ad2b417be66c3710", "23304b7a39f9f3ff067d8d8f9e24ecc7"},
 		{"00000000000000000000000000000000", "00000000000000000000000000000000", "66e94bd4ef8a2c3b884cfa59ca342b2e"},
 	} {
-		k, b := cipher(t, unhex(t, c.key)), unhex(t, c.block)
+		k, b := cipher(t, samples.Hex(c.key)), samples.Hex(c.block)
 		e := encrypt(t, k, b)
 		if hex.EncodeToString(e) != c.want {
 			t.Errorf("Encrypt(%s) under %s: %x; want %s", c.block, c.key, e, c.want)
 		}
-		if d := decrypt(t, cipher(t, unhex(t, c.key)), unhex(t, c.want)); !bytes.Equal(d, b) {
+		if d := decrypt(t, cipher(t, samples.Hex(c.key)), samples.Hex(c.want)); !bytes.Equal(d, b) {
 			t.Errorf("Decrypt(%s) under %s: %x; want %s", c.want, c.key, d, c.block)
 		}
 	}
 }
 
 func TestBlocksAgreeWithTheLibrary(t *testing.T) {
-	from := source(43)
+	from := samples.New(43)
 	for range 200 {
 		for _, n := range []int{16, 32} {
-			key := from.bytes(n)
+			key := from.Bytes(n)
 			k := cipher(t, key)
 			for range 20 {
-				b := from.bytes(16)
+				b := from.Bytes(16)
 				want := library(t, key, b)
 				if e := encrypt(t, k, b); !bytes.Equal(e, want) {
 					t.Fatalf("Encrypt(% x) under % x: % x; want % x", b, key, e, want)
@@ -339,17 +315,11 @@ func TestOtherSizesAreNoBlocks(t *testing.T) {
 
 // P4.3: arguments, results and goroutines.
 
-// framed returns a copy of b that has bytes around it, and those bytes with it.
-func framed(b []byte) (part, whole []byte) {
-	whole = append(append([]byte("before"), b...), "and spare capacity behind it"...)
-	return whole[6 : 6+len(b)], whole
-}
-
 func TestArgumentsAreNotModified(t *testing.T) {
-	from := source(44)
+	from := samples.New(44)
 	for _, n := range []int{16, 32} {
-		key, wholeKey := framed(from.bytes(n))
-		b, wholeBlock := framed(from.bytes(16))
+		key, wholeKey := samples.Framed(from.Bytes(n))
+		b, wholeBlock := samples.Framed(from.Bytes(16))
 		keyBefore, blockBefore := bytes.Clone(wholeKey), bytes.Clone(wholeBlock)
 		k := cipher(t, key)
 		encrypt(t, k, b)
@@ -370,7 +340,7 @@ func TestArgumentsAreNotModified(t *testing.T) {
 // The round keys are made at the first use: by then, the argument of New may have other bytes.
 func TestArgumentsAreNotRetained(t *testing.T) {
 	for _, text := range []string{short, long} {
-		key, b := unhex(t, text), unhex(t, "00112233445566778899aabbccddeeff")
+		key, b := samples.Hex(text), samples.Hex("00112233445566778899aabbccddeeff")
 		original, want := bytes.Clone(key), library(t, key, b)
 		k := cipher(t, key)
 		clear(key)
@@ -387,24 +357,16 @@ func TestArgumentsAreNotRetained(t *testing.T) {
 	}
 }
 
-// spoil overwrites a result with its spare capacity.
-func spoil(b []byte) {
-	b = b[:cap(b)]
-	for i := range b {
-		b[i] = 0xee
-	}
-}
-
 func TestResultsAreNewMemory(t *testing.T) {
 	for _, text := range []string{short, long} {
-		key, b := unhex(t, text), unhex(t, "00112233445566778899aabbccddeeff")
+		key, b := samples.Hex(text), samples.Hex("00112233445566778899aabbccddeeff")
 		k, e := cipher(t, key), library(t, key, b)
 		first, second, third := encrypt(t, k, b), decrypt(t, k, e), k.Rounds()
-		spoil(encrypt(t, k, b))
-		spoil(decrypt(t, k, e))
+		samples.Spoil(encrypt(t, k, b))
+		samples.Spoil(decrypt(t, k, e))
 		list := k.Rounds()
 		for _, round := range list {
-			spoil(round)
+			samples.Spoil(round)
 		}
 		clear(list[:cap(list)])
 		if !bytes.Equal(first, e) || !bytes.Equal(second, b) || !sameRounds(third, slowRounds(key)) {
@@ -418,10 +380,10 @@ func TestResultsAreNewMemory(t *testing.T) {
 
 func TestRoundKeysShareNoMemory(t *testing.T) {
 	for _, text := range []string{short, long} {
-		key := unhex(t, text)
+		key := samples.Hex(text)
 		for i := range len(key)/4 + 7 {
 			l, want := cipher(t, key).Rounds(), slowRounds(key)
-			spoil(l[i])
+			samples.Spoil(l[i])
 			for j := range l {
 				if j != i && !bytes.Equal(l[j], want[j]) {
 					t.Fatalf("round keys %d and %d share memory", i, j)
@@ -432,12 +394,12 @@ func TestRoundKeysShareNoMemory(t *testing.T) {
 }
 
 func TestKeysDoNotTouchEachOther(t *testing.T) {
-	from := source(45)
-	b := from.bytes(16)
+	from := samples.New(45)
+	b := from.Bytes(16)
 	var keys [][]byte
 	var ciphers []*Key
 	for i := range 40 {
-		keys = append(keys, from.bytes(16+16*(i%2)))
+		keys = append(keys, from.Bytes(16+16*(i%2)))
 		ciphers = append(ciphers, cipher(t, keys[i]))
 	}
 	for range 2 {
@@ -451,9 +413,9 @@ func TestKeysDoNotTouchEachOther(t *testing.T) {
 
 // Any of the three may be the first use of a key, and several goroutines may come first together.
 func TestAKeyIsUsedBySeveralGoroutines(t *testing.T) {
-	from := source(46)
+	from := samples.New(46)
 	for range 50 {
-		key, b := from.bytes(16+16*from.below(2)), from.bytes(16)
+		key, b := from.Bytes(16+16*from.Below(2)), from.Bytes(16)
 		want, rounds := library(t, key, b), slowRounds(key)
 		k := cipher(t, key)
 		var group sync.WaitGroup
@@ -486,12 +448,12 @@ func works(k *Key, use int, b, e []byte, rounds [][]byte) bool {
 // P4.4: there and back, and different blocks.
 
 func TestEncryptAndDecryptAreInverse(t *testing.T) {
-	from := source(47)
+	from := samples.New(47)
 	for range 100 {
 		for _, n := range []int{16, 32} {
-			k := cipher(t, from.bytes(n))
+			k := cipher(t, from.Bytes(n))
 			for range 20 {
-				b := from.bytes(16)
+				b := from.Bytes(16)
 				if d := decrypt(t, k, encrypt(t, k, b)); !bytes.Equal(d, b) {
 					t.Fatalf("Decrypt(Encrypt(% x)): % x", b, d)
 				}
@@ -516,7 +478,7 @@ func TestEqualBytesThereAndBack(t *testing.T) {
 
 func TestDifferentBlocksHaveDifferentEncryptions(t *testing.T) {
 	for _, text := range []string{short, long} {
-		k := cipher(t, unhex(t, text))
+		k := cipher(t, samples.Hex(text))
 		seen := map[[16]byte]int{}
 		for n := range 20000 {
 			b := make([]byte, 16)
@@ -533,7 +495,7 @@ func TestDifferentBlocksHaveDifferentEncryptions(t *testing.T) {
 // A chain of encryptions comes back to its beginning by as many decryptions.
 func TestLongChains(t *testing.T) {
 	for _, text := range []string{short, long} {
-		key := unhex(t, text)
+		key := samples.Hex(text)
 		k := cipher(t, key)
 		library, err := aes.NewCipher(key)
 		if err != nil {

@@ -7,23 +7,8 @@ import (
 	"testing"
 
 	"moneyer/api"
+	"moneyer/samples"
 )
-
-// source yields the same numbers in every run.
-type source uint64
-
-func (s *source) below(n int) int {
-	*s = *s*6364136223846793005 + 1442695040888963407
-	return int(uint64(*s>>33) % uint64(n))
-}
-
-func (s *source) bytes(n int) []byte {
-	b := make([]byte, n)
-	for i := range b {
-		b[i] = byte(s.below(256))
-	}
-	return b
-}
 
 // slowSum follows the document's words, bit by bit.
 func slowSum(p []byte) int {
@@ -96,15 +81,15 @@ func TestSumOfEveryByte(t *testing.T) {
 }
 
 func TestSumAgreesWithTheDefinition(t *testing.T) {
-	from := source(21)
+	from := samples.New(21)
 	for n := range 600 {
-		p := from.bytes(n)
+		p := from.Bytes(n)
 		if got := Sum(p); got != slowSum(p) || got < 0 || got >= 1<<32 {
 			t.Fatalf("Sum(% x): %d; want %d", p, got, slowSum(p))
 		}
 	}
 	for _, n := range []int{api.MaxSector - 4, api.MaxSector, api.MaxPlain, 1 << 20} {
-		p := from.bytes(n)
+		p := from.Bytes(n)
 		if got := Sum(p); got != slowSum(p) {
 			t.Errorf("Sum of %d bytes: %d; want %d", n, got, slowSum(p))
 		}
@@ -118,21 +103,16 @@ func TestSumOfParts(t *testing.T) {
 	if Sum([]byte("12"), []byte("3")) == Sum([]byte("3"), []byte("12")) {
 		t.Error("the order of parts does not count")
 	}
-	from := source(22)
+	from := samples.New(22)
 	for range 500 {
-		whole := from.bytes(from.below(300))
+		whole := from.Bytes(from.Below(300))
 		want := slowSum(whole)
 		for cut := range len(whole) + 1 {
 			if n := Sum(whole[:cut], whole[cut:]); n != want {
 				t.Fatalf("Sum of % x cut at %d: %d; want %d", whole, cut, n, want)
 			}
 		}
-		var parts [][]byte
-		for rest := whole; len(rest) > 0; {
-			n := from.below(min(len(rest), 7) + 1)
-			parts = append(parts, rest[:n])
-			rest = rest[n:]
-		}
+		parts := from.Cut(whole, 7)
 		if n := Sum(parts...); n != want {
 			t.Fatalf("Sum of % x in %d parts: %d; want %d", whole, len(parts), n, want)
 		}
@@ -168,11 +148,11 @@ func TestLayPutsBytesAndChecksum(t *testing.T) {
 }
 
 func TestLayAtEverySize(t *testing.T) {
-	from := source(23)
+	from := samples.New(23)
 	for size := 5; size <= api.MaxSector; size++ {
 		room := size - 4
-		for _, n := range []int{0, 1, from.below(room + 1), room - 1, room} {
-			p := from.bytes(n)
+		for _, n := range []int{0, 1, from.Below(room + 1), room - 1, room} {
+			p := from.Bytes(n)
 			want := sector(append(p, make([]byte, room-n)...))
 			if b, err := Lay(p, size); !bytes.Equal(b, want) || err != api.OK {
 				t.Fatalf("Lay(%d bytes, %d): %d bytes, %d", n, size, len(b), err)
@@ -236,9 +216,9 @@ func TestTakeReturnsWhatStandsBeforeTheChecksum(t *testing.T) {
 			t.Errorf("Take(% x): % x, %d; want % x", b, p, err, want)
 		}
 	}
-	from := source(24)
+	from := samples.New(24)
 	for size := 5; size <= api.MaxSector; size++ {
-		content := from.bytes(size - 4)
+		content := from.Bytes(size - 4)
 		if p, err := Take(sector(content)); !bytes.Equal(p, content) || err != api.OK {
 			t.Fatalf("Take of %d bytes: %d bytes, %d", size, len(p), err)
 		}
@@ -246,9 +226,9 @@ func TestTakeReturnsWhatStandsBeforeTheChecksum(t *testing.T) {
 }
 
 func TestTakeRefusesOtherSizes(t *testing.T) {
-	from := source(25)
+	from := samples.New(25)
 	for _, n := range []int{api.MaxSector - 3, api.MaxSector, api.MaxSector + 100, 1 << 20} {
-		if p, err := Take(sector(from.bytes(n))); p != nil || err != api.ErrForm {
+		if p, err := Take(sector(from.Bytes(n))); p != nil || err != api.ErrForm {
 			t.Errorf("Take of %d bytes: %d bytes, %d", n+4, len(p), err)
 		}
 	}
@@ -270,9 +250,9 @@ func TestTakeRefusesOtherSizes(t *testing.T) {
 }
 
 func TestTakeRefusesAnotherChecksum(t *testing.T) {
-	from := source(26)
+	from := samples.New(26)
 	for _, n := range []int{1, 2, 4, 60, 508, api.MaxSector - 4} {
-		good := sector(from.bytes(n))
+		good := sector(from.Bytes(n))
 		for i := n; i < n+4; i++ {
 			for change := 1; change < 256; change++ {
 				b := bytes.Clone(good)
@@ -299,14 +279,8 @@ func TestTakeRefusesAnotherChecksum(t *testing.T) {
 
 // P2.3: arguments and results.
 
-// framed returns a copy of p that has bytes around it, and those bytes with it.
-func framed(p []byte) (part, whole []byte) {
-	whole = append(append([]byte("before"), p...), "and spare capacity behind it, more than any sector of these needs"...)
-	return whole[6 : 6+len(p)], whole
-}
-
 func TestArgumentsAreNotModified(t *testing.T) {
-	part, whole := framed([]byte("123456789"))
+	part, whole := samples.Framed([]byte("123456789"))
 	before := bytes.Clone(whole)
 	Sum(part)
 	Sum(part[:2], nil, part[2:])
@@ -318,7 +292,7 @@ func TestArgumentsAreNotModified(t *testing.T) {
 	if !bytes.Equal(whole, before) {
 		t.Errorf("an argument was changed: %q", whole)
 	}
-	good, whole := framed(sector([]byte("123456789")))
+	good, whole := samples.Framed(sector([]byte("123456789")))
 	before = bytes.Clone(whole)
 	if p, err := Take(good); string(p) != "123456789" || err != api.OK {
 		t.Errorf("Take: %q, %d", p, err)
@@ -357,28 +331,20 @@ func TestArgumentsAreNotRetained(t *testing.T) {
 	}
 }
 
-// spoil overwrites a result with its spare capacity.
-func spoil(b []byte) {
-	b = b[:cap(b)]
-	for i := range b {
-		b[i] = 0xee
-	}
-}
-
 func TestResultsAreNewMemory(t *testing.T) {
 	for _, size := range []int{5, 8, 13, 64, 512, 1000, api.MaxSector} {
 		p := []byte("1")
 		first, second := lay(t, p, size), lay(t, p, size)
 		want := bytes.Clone(first)
-		spoil(second)
+		samples.Spoil(second)
 		if string(p) != "1" || !bytes.Equal(first, want) || !bytes.Equal(lay(t, p, size), want) {
 			t.Errorf("Lay(p, %d) shares memory", size)
 		}
-		b, whole := framed(want)
+		b, whole := samples.Framed(want)
 		before := bytes.Clone(whole)
 		content, _ := Take(b)
 		again, _ := Take(b)
-		spoil(again)
+		samples.Spoil(again)
 		if !bytes.Equal(whole, before) || !bytes.Equal(content, want[:size-4]) {
 			t.Errorf("Take of %d bytes shares memory", size)
 		}
@@ -415,11 +381,11 @@ func TestNilAndEmptyAreTheSame(t *testing.T) {
 // P2.4: there and back, and faults that the checksum shows.
 
 func TestTakeReturnsWhatWasLaid(t *testing.T) {
-	from := source(28)
+	from := samples.New(28)
 	for size := 5; size <= api.MaxSector; size++ {
 		room := size - 4
-		for _, n := range []int{0, 1, from.below(room + 1), room} {
-			p := from.bytes(n)
+		for _, n := range []int{0, 1, from.Below(room + 1), room} {
+			p := from.Bytes(n)
 			content, err := Take(lay(t, p, size))
 			if err != api.OK || len(content) != room || !bytes.Equal(content[:n], p) || !bytes.Equal(content[n:], make([]byte, room-n)) {
 				t.Fatalf("Take(Lay(% x, %d)): % x, %d", p, size, content, err)
@@ -441,16 +407,16 @@ func refuses(t *testing.T, good []byte, at int, change ...byte) {
 }
 
 func TestChangedBytesAreRejected(t *testing.T) {
-	from := source(29)
+	from := samples.New(29)
 	for _, size := range []int{5, 6, 7, 8, 9, 13, 64, 100} {
-		good := lay(t, from.bytes(from.below(size-3)), size)
+		good := lay(t, from.Bytes(from.Below(size-3)), size)
 		for at := range size - 4 {
 			for x := 1; x < 256; x++ {
 				refuses(t, good, at, byte(x))
 			}
 			for width := 2; width <= 4 && at+width <= size-4; width++ {
 				for range 500 {
-					refuses(t, good, at, change(&from, width)...)
+					refuses(t, good, at, change(from, width)...)
 				}
 			}
 		}
@@ -458,10 +424,10 @@ func TestChangedBytesAreRejected(t *testing.T) {
 }
 
 // change is one of so many bytes, in which the first and the last differ.
-func change(from *source, width int) []byte {
-	x := from.bytes(width)
-	x[0] |= 1 << from.below(8)
-	x[width-1] |= 1 << from.below(8)
+func change(from *samples.Source, width int) []byte {
+	x := from.Bytes(width)
+	x[0] |= 1 << from.Below(8)
+	x[width-1] |= 1 << from.Below(8)
 	return x
 }
 
@@ -475,12 +441,12 @@ func TestEveryChangeOfTwoBytesIsRejected(t *testing.T) {
 }
 
 func TestChangesInLargeSectorsAreRejected(t *testing.T) {
-	from := source(30)
+	from := samples.New(30)
 	for _, size := range []int{512, api.MaxSector} {
-		good := lay(t, from.bytes(size-4), size)
+		good := lay(t, from.Bytes(size-4), size)
 		for range 2000 {
-			width := 1 + from.below(4)
-			refuses(t, good, from.below(size-4-width+1), change(&from, width)...)
+			width := 1 + from.Below(4)
+			refuses(t, good, from.Below(size-4-width+1), change(from, width)...)
 		}
 		for at := size - 8; at < size-4; at++ {
 			refuses(t, good, at, 1)

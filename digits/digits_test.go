@@ -8,23 +8,8 @@ import (
 	"testing"
 
 	"moneyer/api"
+	"moneyer/samples"
 )
-
-// source yields the same numbers in every run.
-type source uint64
-
-func (s *source) below(n int) int {
-	*s = *s*6364136223846793005 + 1442695040888963407
-	return int(uint64(*s>>33) % uint64(n))
-}
-
-func (s *source) digits(n int) string {
-	b := make([]byte, n)
-	for i := range b {
-		b[i] = byte('0' + s.below(10))
-	}
-	return string(b)
-}
 
 // slowLuhn follows the document's words, from the end of the string.
 func slowLuhn(s string) int {
@@ -228,9 +213,9 @@ func TestLuhnOfKnownNumbers(t *testing.T) {
 }
 
 func TestLuhnMakesValidStrings(t *testing.T) {
-	from := source(12)
+	from := samples.New(12)
 	for n := range api.MaxDigits + 1 {
-		s := from.digits(n)
+		s := from.Digits(n)
 		d, err := Luhn(s)
 		if err != api.OK || d < 0 || d > 9 {
 			t.Fatalf("Luhn(%s): %d, %d", short(s), d, err)
@@ -345,10 +330,10 @@ func TestNumberRefuses(t *testing.T) {
 }
 
 func TestNumberAgreesWithBigNumbers(t *testing.T) {
-	from := source(13)
+	from := samples.New(13)
 	most := big.NewInt(api.MaxInt)
 	for round := range 20000 {
-		s := from.digits(1 + round%22)
+		s := from.Digits(1 + round%22)
 		want, _ := new(big.Int).SetString(s, 10)
 		n, err := Number(s)
 		if want.Cmp(most) > 0 {
@@ -487,10 +472,10 @@ func TestResultsDependOnArgumentsAlone(t *testing.T) {
 // P1.5: there and back.
 
 func TestUnpackingPackedDigitsReturnsThem(t *testing.T) {
-	from := source(15)
+	from := samples.New(15)
 	rests := [][]byte{nil, {0}, {0xff}, {0x12, 0xab, 0}}
 	for n := range api.MaxDigits + 1 {
-		for _, s := range []string{from.digits(n), strings.Repeat("0", n), strings.Repeat("9", n)} {
+		for _, s := range []string{from.Digits(n), strings.Repeat("0", n), strings.Repeat("9", n)} {
 			b, err := Pack(s)
 			if err != api.OK || len(b) != (n+1)/2 {
 				t.Fatalf("Pack(%s): % x, %d", short(s), b, err)
@@ -505,13 +490,13 @@ func TestUnpackingPackedDigitsReturnsThem(t *testing.T) {
 }
 
 func TestUnpackedDigitsPackToTheSameBytes(t *testing.T) {
-	from := source(16)
+	from := samples.New(16)
 	for range 20000 {
-		b := make([]byte, from.below(5))
+		b := make([]byte, from.Below(5))
 		for i := range b {
-			b[i] = byte(from.below(11)<<4 | from.below(11))
+			b[i] = byte(from.Below(11)<<4 | from.Below(11))
 		}
-		n := from.below(10)
+		n := from.Below(10)
 		s, size, err := Unpack(b, n)
 		if err != api.OK {
 			continue
@@ -523,11 +508,10 @@ func TestUnpackedDigitsPackToTheSameBytes(t *testing.T) {
 }
 
 func TestNumberOfTextIsTheNumber(t *testing.T) {
-	from := source(17)
+	from := samples.New(17)
 	numbers := []int{0, 1, 9, 10, 4111, api.MaxAmount, api.MaxInt - 1, api.MaxInt}
 	for range 2000 {
-		n := from.below(1<<31)<<32 | from.below(1<<31)<<1
-		numbers = append(numbers, n>>from.below(63))
+		numbers = append(numbers, from.Number())
 	}
 	for _, n := range numbers {
 		for width := 1; width <= 19; width++ {
@@ -545,10 +529,10 @@ func TestNumberOfTextIsTheNumber(t *testing.T) {
 // P1.6: faults that a check digit shows.
 
 func validStrings() []string {
-	from := source(18)
+	from := samples.New(18)
 	list := []string{"0", "18", "59", "67", "79927398713", "4111111111111111"}
 	for _, n := range []int{1, 2, 3, 15, 16, 17, 18, 97, 98, api.MaxDigits - 2, api.MaxDigits - 1} {
-		s := from.digits(n)
+		s := from.Digits(n)
 		d, _ := Luhn(s)
 		list = append(list, s+string(rune('0'+d)))
 	}

@@ -5,47 +5,12 @@ import (
 	"crypto/hmac"
 	"crypto/sha256"
 	"encoding/binary"
-	"encoding/hex"
 	"sync"
 	"testing"
 	"time"
+
+	"moneyer/samples"
 )
-
-// source yields the same numbers in every run.
-type source uint64
-
-func (s *source) below(n int) int {
-	*s = *s*6364136223846793005 + 1442695040888963407
-	return int(uint64(*s>>33) % uint64(n))
-}
-
-func (s *source) bytes(n int) []byte {
-	b := make([]byte, n)
-	for i := range b {
-		b[i] = byte(s.below(256))
-	}
-	return b
-}
-
-// cut divides bytes into parts of up to most bytes, some of them empty.
-func (s *source) cut(whole []byte, most int) [][]byte {
-	parts := [][]byte{nil}
-	for rest := whole; len(rest) > 0; {
-		n := s.below(min(len(rest), most) + 1)
-		parts = append(parts, rest[:n])
-		rest = rest[n:]
-	}
-	return append(parts, []byte{})
-}
-
-func unhex(t *testing.T, s string) []byte {
-	t.Helper()
-	b, err := hex.DecodeString(s)
-	if err != nil {
-		t.Fatal(err)
-	}
-	return b
-}
 
 // slowTag follows the document's words.
 func slowTag(key, p []byte) []byte {
@@ -100,7 +65,7 @@ const ofJefe = "5bdcc146bf60754e6a042426089575c75a003f089d2739839dec58b964ec3843
 
 func TestKnownTags(t *testing.T) {
 	repeat := func(b byte, n int) []byte { return bytes.Repeat([]byte{b}, n) }
-	counted := unhex(t, "0102030405060708090a0b0c0d0e0f10111213141516171819")
+	counted := samples.Hex("0102030405060708090a0b0c0d0e0f10111213141516171819")
 	for _, c := range []struct {
 		key, p []byte
 		want   string
@@ -114,17 +79,17 @@ func TestKnownTags(t *testing.T) {
 		{nil, nil, "b613679a0814d9ec772f95d778c35fc5ff1697c493715653c6c712144292c5ad"},
 		{[]byte("key"), []byte("The quick brown fox jumps over the lazy dog"), "f7bc83f430538424b13298e6aa6fb143ef4d59a14946175997479dbc2d1a3cd8"},
 	} {
-		isTag(t, unhex(t, c.want), c.key, c.p)
+		isTag(t, samples.Hex(c.want), c.key, c.p)
 	}
-	isTag(t, unhex(t, ofJefe), []byte("Jefe"), []byte("what do ya want "), []byte("for nothing?"))
+	isTag(t, samples.Hex(ofJefe), []byte("Jefe"), []byte("what do ya want "), []byte("for nothing?"))
 }
 
 func TestTagsAgreeWithTheDefinitionAndTheLibrary(t *testing.T) {
-	from := source(61)
+	from := samples.New(61)
 	for size := range 200 {
-		key := from.bytes(size)
+		key := from.Bytes(size)
 		for range 5 {
-			p := from.bytes(from.below(300))
+			p := from.Bytes(from.Below(300))
 			if !bytes.Equal(slowTag(key, p), library(key, p)) {
 				t.Fatalf("the definition and the library differ: % x, % x", key, p)
 			}
@@ -134,18 +99,18 @@ func TestTagsAgreeWithTheDefinitionAndTheLibrary(t *testing.T) {
 }
 
 func TestTagsOfAllLengths(t *testing.T) {
-	from := source(62)
-	key := from.bytes(32)
+	from := samples.New(62)
+	key := from.Bytes(32)
 	m := New(key)
 	for n := range 300 {
-		p := from.bytes(n)
+		p := from.Bytes(n)
 		isTag(t, library(key, p), key, p)
 		if d := m.Mac(p); !bytes.Equal(d, library(key, p)) {
 			t.Fatalf("Mac of %d bytes: %x", n, d)
 		}
 	}
 	for _, n := range []int{4096, 1 << 16, 1<<20 + 1} {
-		p := from.bytes(n)
+		p := from.Bytes(n)
 		if d := m.Mac(p); !bytes.Equal(d, library(key, p)) {
 			t.Errorf("Mac of %d bytes: %x", n, d)
 		}
@@ -154,10 +119,10 @@ func TestTagsOfAllLengths(t *testing.T) {
 
 // A key of more than 64 bytes is replaced by its digest; one of 64 is not.
 func TestKeysAroundABlock(t *testing.T) {
-	from := source(63)
+	from := samples.New(63)
 	p := []byte("some bytes")
 	for _, size := range []int{0, 1, 31, 32, 33, 63, 64, 65, 66, 127, 128, 129, 1000, 1 << 16} {
-		key := from.bytes(size)
+		key := from.Bytes(size)
 		isTag(t, slowTag(key, p), key, p)
 		digest := sha256.Sum256(key)
 		if same := bytes.Equal(Mac(key, p), Mac(digest[:], p)); same != (size > 64) {
@@ -197,13 +162,13 @@ func TestTheOrderOfPartsCounts(t *testing.T) {
 }
 
 func TestAMakerIsUsedRepeatedly(t *testing.T) {
-	from := source(64)
+	from := samples.New(64)
 	for _, size := range []int{0, 16, 32, 64, 100} {
-		key := from.bytes(size)
+		key := from.Bytes(size)
 		m := New(key)
 		for range 100 {
-			p := from.bytes(from.below(200))
-			if d := m.Mac(from.cut(p, 50)...); !bytes.Equal(d, library(key, p)) {
+			p := from.Bytes(from.Below(200))
+			if d := m.Mac(from.Cut(p, 50)...); !bytes.Equal(d, library(key, p)) {
 				t.Fatalf("Mac(% x) under % x: %x; want %x", p, key, d, library(key, p))
 			}
 		}
@@ -211,15 +176,15 @@ func TestAMakerIsUsedRepeatedly(t *testing.T) {
 }
 
 func TestMakersDoNotTouchEachOther(t *testing.T) {
-	from := source(65)
+	from := samples.New(65)
 	var makers [20]*Maker
 	var keys [20][]byte
 	for i := range makers {
-		keys[i] = from.bytes(from.below(100))
+		keys[i] = from.Bytes(from.Below(100))
 		makers[i] = New(keys[i])
 	}
 	for range 1000 {
-		i, p := from.below(20), from.bytes(from.below(40))
+		i, p := from.Below(20), from.Bytes(from.Below(40))
 		if d := makers[i].Mac(p); !bytes.Equal(d, library(keys[i], p)) {
 			t.Fatalf("Mac(% x) under % x: %x; want %x", p, keys[i], d, library(keys[i], p))
 		}
@@ -228,13 +193,13 @@ func TestMakersDoNotTouchEachOther(t *testing.T) {
 
 // Several goroutines may come first together.
 func TestAMakerIsUsedBySeveralGoroutines(t *testing.T) {
-	from := source(66)
+	from := samples.New(66)
 	for range 50 {
-		key := from.bytes(from.below(100))
+		key := from.Bytes(from.Below(100))
 		m := New(key)
 		var group sync.WaitGroup
 		for i := range 12 {
-			p := from.bytes(from.below(150))
+			p := from.Bytes(from.Below(150))
 			want, half := library(key, p), len(p)/2
 			group.Go(func() {
 				for range 5 {
@@ -304,9 +269,9 @@ func TestSameOfKnownBytes(t *testing.T) {
 }
 
 func TestSameSeesEachBit(t *testing.T) {
-	from := source(67)
+	from := samples.New(67)
 	for _, n := range []int{1, 2, 16, 31, 32, 33, 100} {
-		a := from.bytes(n)
+		a := from.Bytes(n)
 		b := bytes.Clone(a)
 		for bit := range 8 * n {
 			b[bit/8] ^= 0x80 >> (bit % 8)
@@ -357,9 +322,9 @@ func TestSameComparesEveryByte(t *testing.T) {
 // P6.3: Fold.
 
 func TestFoldWithoutLabels(t *testing.T) {
-	from := source(68)
+	from := samples.New(68)
 	for _, n := range []int{1, 2, 16, 32, 63, 64, 65, 100, 1000} {
-		key := from.bytes(n)
+		key := from.Bytes(n)
 		if k := Fold(key); !bytes.Equal(k, key) {
 			t.Errorf("Fold(% x): % x", key, k)
 		}
@@ -397,10 +362,10 @@ func TestKnownFolds(t *testing.T) {
 
 // Each byte of the length stands in its own place.
 func TestFoldByLongLabels(t *testing.T) {
-	from := source(69)
-	key := from.bytes(32)
+	from := samples.New(69)
+	key := from.Bytes(32)
 	for _, n := range []int{0, 1, 55, 56, 127, 128, 255, 256, 257, 511, 512, 65535, 65536, 65537, 1 << 24} {
-		label := string(from.bytes(n))
+		label := string(from.Bytes(n))
 		if k := Fold(key, label); !bytes.Equal(k, slowFold(key, label)) {
 			t.Errorf("Fold by %d bytes: %x; want %x", n, k, slowFold(key, label))
 		}
@@ -408,12 +373,12 @@ func TestFoldByLongLabels(t *testing.T) {
 }
 
 func TestFoldAgreesWithTheDefinition(t *testing.T) {
-	from := source(70)
+	from := samples.New(70)
 	for range 300 {
-		key := from.bytes(from.below(130))
+		key := from.Bytes(from.Below(130))
 		var labels []string
-		for range from.below(6) {
-			labels = append(labels, string(from.bytes(from.below(80))))
+		for range from.Below(6) {
+			labels = append(labels, string(from.Bytes(from.Below(80))))
 		}
 		if k := Fold(key, labels...); !bytes.Equal(k, slowFold(key, labels...)) {
 			t.Fatalf("Fold(% x, %q): %x; want %x", key, labels, k, slowFold(key, labels...))
@@ -447,17 +412,11 @@ func TestDifferentLabelsFoldToDifferentKeys(t *testing.T) {
 
 // P6.4: arguments and results.
 
-// framed returns a copy of p that has bytes around it, and those bytes with it.
-func framed(p []byte) (part, whole []byte) {
-	whole = append(append([]byte("before"), p...), "and spare capacity behind it, more than a key needs to fill a block and a digest behind that, so that both would find room here"...)
-	return whole[6 : 6+len(p)], whole
-}
-
 func TestArgumentsAreNotModified(t *testing.T) {
-	from := source(71)
+	from := samples.New(71)
 	for n := range 150 {
-		key, wholeKey := framed(from.bytes(n))
-		part, wholePart := framed(from.bytes(149 - n))
+		key, wholeKey := samples.Framed(from.Bytes(n))
+		part, wholePart := samples.Framed(from.Bytes(149 - n))
 		beforeKey, beforePart := bytes.Clone(wholeKey), bytes.Clone(wholePart)
 		Mac(key, part, nil, part[:len(part)/2])
 		m := New(key)
@@ -495,10 +454,10 @@ func TestListsAreNotModified(t *testing.T) {
 
 // A key that is overwritten ahead of the first use, or behind it, is another one's.
 func TestKeysAreNotRetained(t *testing.T) {
-	from := source(72)
+	from := samples.New(72)
 	p := []byte("some bytes")
 	for n := range 150 {
-		given := from.bytes(n)
+		given := from.Bytes(n)
 		key := bytes.Clone(given)
 		used, unused := New(given), New(given)
 		used.Mac(p)
@@ -522,26 +481,18 @@ func TestPartsAreNotRetained(t *testing.T) {
 	}
 }
 
-// spoil overwrites a result with its spare capacity.
-func spoil(b []byte) {
-	b = b[:cap(b)]
-	for i := range b {
-		b[i] = 0xee
-	}
-}
-
 func TestResultsAreNewMemory(t *testing.T) {
-	from := source(73)
+	from := samples.New(73)
 	for n := range 150 {
-		given, whole := framed(from.bytes(n))
+		given, whole := samples.Framed(from.Bytes(n))
 		key, before := bytes.Clone(given), bytes.Clone(whole)
-		p := from.bytes(n)
+		p := from.Bytes(n)
 		m := New(given)
 		tag, made, plain, folded := Mac(given, p), m.Mac(p), Fold(given), Fold(given, "a")
-		spoil(Mac(given, p))
-		spoil(m.Mac(p))
-		spoil(Fold(given))
-		spoil(Fold(given, "a"))
+		samples.Spoil(Mac(given, p))
+		samples.Spoil(m.Mac(p))
+		samples.Spoil(Fold(given))
+		samples.Spoil(Fold(given, "a"))
 		if !bytes.Equal(whole, before) {
 			t.Fatalf("a result shares memory with a key of %d bytes", n)
 		}
@@ -561,22 +512,22 @@ func TestResultsAreNewMemory(t *testing.T) {
 // P6.5: parts, zero bytes behind keys, and labels in two goes.
 
 func TestTheDivisionIntoPartsHasNoInfluence(t *testing.T) {
-	from := source(74)
+	from := samples.New(74)
 	for range 300 {
-		key, whole := from.bytes(from.below(100)), from.bytes(from.below(400))
+		key, whole := from.Bytes(from.Below(100)), from.Bytes(from.Below(400))
 		want := library(key, whole)
 		isTag(t, want, key, whole)
-		isTag(t, want, key, from.cut(whole, 1+from.below(100))...)
-		cut := from.below(len(whole) + 1)
+		isTag(t, want, key, from.Cut(whole, 1+from.Below(100))...)
+		cut := from.Below(len(whole) + 1)
 		isTag(t, want, key, whole[:cut], whole[cut:])
 	}
 }
 
 func TestZeroBytesBehindAKeyHaveNoInfluence(t *testing.T) {
-	from := source(75)
+	from := samples.New(75)
 	p := []byte("some bytes")
 	for size := range 65 {
-		key := from.bytes(size)
+		key := from.Bytes(size)
 		want := Mac(key, p)
 		for n := range 70 - size {
 			filled := append(bytes.Clone(key), make([]byte, n)...)
@@ -592,12 +543,12 @@ func TestZeroBytesBehindAKeyHaveNoInfluence(t *testing.T) {
 }
 
 func TestFoldingInTwoGoes(t *testing.T) {
-	from := source(76)
+	from := samples.New(76)
 	for range 200 {
-		key := from.bytes(from.below(100))
+		key := from.Bytes(from.Below(100))
 		var labels []string
-		for range from.below(8) {
-			labels = append(labels, string(from.bytes(from.below(20))))
+		for range from.Below(8) {
+			labels = append(labels, string(from.Bytes(from.Below(20))))
 		}
 		want := Fold(key, labels...)
 		for cut := range len(labels) + 1 {

@@ -10,34 +10,8 @@ import (
 	"testing"
 
 	"moneyer/api"
+	"moneyer/samples"
 )
-
-// source yields the same numbers in every run.
-type source uint64
-
-func (s *source) below(n int) int {
-	*s = *s*6364136223846793005 + 1442695040888963407
-	return int(uint64(*s>>33) % uint64(n))
-}
-
-func (s *source) bytes(n int) []byte {
-	b := make([]byte, n)
-	for i := range b {
-		b[i] = byte(s.below(256))
-	}
-	return b
-}
-
-// cut divides bytes into parts of up to most bytes, some of them empty.
-func (s *source) cut(whole []byte, most int) [][]byte {
-	parts := [][]byte{nil}
-	for rest := whole; len(rest) > 0; {
-		n := s.below(min(len(rest), most) + 1)
-		parts = append(parts, rest[:n])
-		rest = rest[n:]
-	}
-	return append(parts, []byte{})
-}
 
 // library is what Go's own package digests.
 func library(p []byte) []byte {
@@ -187,9 +161,9 @@ func TestSumOfNoBytes(t *testing.T) {
 
 // The padding changes at every length from 0 to 63 beyond full blocks.
 func TestSumAgreesWithTheDefinition(t *testing.T) {
-	from := source(51)
+	from := samples.New(51)
 	for n := range 260 {
-		for _, p := range [][]byte{from.bytes(n), make([]byte, n), bytes.Repeat([]byte{0xff}, n)} {
+		for _, p := range [][]byte{from.Bytes(n), make([]byte, n), bytes.Repeat([]byte{0xff}, n)} {
 			if d := digest(t, p); !bytes.Equal(d, slowSum(p)) {
 				t.Fatalf("Sum(% x): %x; want %x", p, d, slowSum(p))
 			}
@@ -198,15 +172,15 @@ func TestSumAgreesWithTheDefinition(t *testing.T) {
 }
 
 func TestSumAgreesWithTheLibrary(t *testing.T) {
-	from := source(52)
+	from := samples.New(52)
 	for n := range 2000 {
-		p := from.bytes(n)
+		p := from.Bytes(n)
 		if d := digest(t, p); !bytes.Equal(d, library(p)) {
 			t.Fatalf("Sum of %d bytes: %x; want %x", n, d, library(p))
 		}
 	}
 	for _, n := range []int{api.MaxSector - 1, api.MaxSector, api.MaxPlain - 1, api.MaxPlain, 1<<20 + 55, 1<<20 + 56, 1 << 22} {
-		p := from.bytes(n)
+		p := from.Bytes(n)
 		if d := digest(t, p); !bytes.Equal(d, library(p)) {
 			t.Errorf("Sum of %d bytes: %x; want %x", n, d, library(p))
 		}
@@ -312,13 +286,13 @@ func TestNewHasNothing(t *testing.T) {
 }
 
 func TestWriteGoesOnBehindSum(t *testing.T) {
-	from := source(53)
+	from := samples.New(53)
 	h := New()
 	var all []byte
 	for len(all) < 700 {
 		isDigest(t, h, all)
 		isDigest(t, h, all) // asking changes nothing
-		p := from.bytes(1)
+		p := from.Bytes(1)
 		h.Write(p)
 		all = append(all, p...)
 	}
@@ -327,12 +301,12 @@ func TestWriteGoesOnBehindSum(t *testing.T) {
 
 // Asked only at the end, a Hash has the same as one that was asked in between.
 func TestSumInBetweenChangesNothing(t *testing.T) {
-	from := source(54)
+	from := samples.New(54)
 	for range 200 {
 		asked, unasked := New(), New()
 		var all []byte
 		for range 20 {
-			p := from.bytes(from.below(100))
+			p := from.Bytes(from.Below(100))
 			asked.Write(p)
 			unasked.Write(p)
 			all = append(all, p...)
@@ -343,13 +317,13 @@ func TestSumInBetweenChangesNothing(t *testing.T) {
 }
 
 func TestWriteTakesSeveralParts(t *testing.T) {
-	from := source(55)
+	from := samples.New(55)
 	for range 300 {
 		h := New()
 		var all []byte
 		for range 5 {
-			p := from.bytes(from.below(200))
-			h.Write(from.cut(p, 70)...)
+			p := from.Bytes(from.Below(200))
+			h.Write(from.Cut(p, 70)...)
 			all = append(all, p...)
 			isDigest(t, h, all)
 		}
@@ -357,14 +331,14 @@ func TestWriteTakesSeveralParts(t *testing.T) {
 }
 
 func TestHashesDoNotTouchEachOther(t *testing.T) {
-	from := source(56)
+	from := samples.New(56)
 	var hashes [20]*Hash
 	var all [20][]byte
 	for i := range hashes {
 		hashes[i] = New()
 	}
 	for range 1000 {
-		i, p := from.below(20), from.bytes(from.below(40))
+		i, p := from.Below(20), from.Bytes(from.Below(40))
 		hashes[i].Write(p)
 		all[i] = append(all[i], p...)
 	}
@@ -376,8 +350,8 @@ func TestHashesDoNotTouchEachOther(t *testing.T) {
 
 // Several goroutines that only ask do not disturb each other.
 func TestSumBySeveralGoroutines(t *testing.T) {
-	from := source(57)
-	p := from.bytes(150)
+	from := samples.New(57)
+	p := from.Bytes(150)
 	h := New()
 	h.Write(p)
 	var group sync.WaitGroup
@@ -396,16 +370,10 @@ func TestSumBySeveralGoroutines(t *testing.T) {
 
 // P5.4: arguments and results.
 
-// framed returns a copy of p that has bytes around it, and those bytes with it.
-func framed(p []byte) (part, whole []byte) {
-	whole = append(append([]byte("before"), p...), "and spare capacity behind it, more than the padding of a block needs, and a digest behind that, so that both would find room here"...)
-	return whole[6 : 6+len(p)], whole
-}
-
 func TestArgumentsAreNotModified(t *testing.T) {
-	from := source(58)
+	from := samples.New(58)
 	for n := range 200 {
-		part, whole := framed(from.bytes(n))
+		part, whole := samples.Framed(from.Bytes(n))
 		before := bytes.Clone(whole)
 		h := New()
 		h.Write(part[:n/2], part[n/2:])
@@ -434,9 +402,9 @@ func TestPartsAreNotModified(t *testing.T) {
 }
 
 func TestArgumentsAreNotRetained(t *testing.T) {
-	from := source(59)
+	from := samples.New(59)
 	for n := range 200 {
-		p := from.bytes(n)
+		p := from.Bytes(n)
 		all := bytes.Clone(p)
 		parts := [][]byte{p[:n/2], p[n/2:]}
 		h := New()
@@ -449,36 +417,28 @@ func TestArgumentsAreNotRetained(t *testing.T) {
 	}
 }
 
-// spoil overwrites a result with its spare capacity.
-func spoil(b []byte) {
-	b = b[:cap(b)]
-	for i := range b {
-		b[i] = 0xee
-	}
-}
-
 func TestResultsAreNewMemory(t *testing.T) {
-	from := source(60)
+	from := samples.New(60)
 	for n := range 200 {
-		p := from.bytes(n)
+		p := from.Bytes(n)
 		first := Sum(p)
-		spoil(Sum(p))
+		samples.Spoil(Sum(p))
 		if !bytes.Equal(first, library(p)) || !bytes.Equal(Sum(p), library(p)) {
 			t.Fatalf("Sum of %d bytes shares memory", n)
 		}
 		h := New()
 		h.Write(p)
 		first = h.Sum()
-		spoil(h.Sum())
+		samples.Spoil(h.Sum())
 		if !bytes.Equal(first, library(p)) {
 			t.Fatalf("two digests of %d bytes share memory", n)
 		}
 		isDigest(t, h, p)
-		spoil(first)
+		samples.Spoil(first)
 		h.Write(p)
 		isDigest(t, h, append(bytes.Clone(p), p...))
 	}
-	spoil(Sum())
+	samples.Spoil(Sum())
 	isDigest(t, New(), nil)
 }
 
@@ -496,9 +456,9 @@ func TestADigestIsWrittenIntoItsOwnHash(t *testing.T) {
 // P5.5: parts and the whole.
 
 func TestEveryCutHasTheDigestOfTheWhole(t *testing.T) {
-	from := source(61)
+	from := samples.New(61)
 	for _, n := range []int{1, 2, 55, 56, 57, 63, 64, 65, 119, 120, 127, 128, 129, 200} {
-		whole := from.bytes(n)
+		whole := from.Bytes(n)
 		for cut := range n + 1 {
 			if d := digest(t, whole[:cut], whole[cut:]); !bytes.Equal(d, library(whole)) {
 				t.Fatalf("Sum of %d bytes cut at %d: %x", n, cut, d)
@@ -512,10 +472,10 @@ func TestEveryCutHasTheDigestOfTheWhole(t *testing.T) {
 }
 
 func TestAnyPartsHaveTheDigestOfTheWhole(t *testing.T) {
-	from := source(62)
+	from := samples.New(62)
 	for range 500 {
-		whole := from.bytes(from.below(1000))
-		parts := from.cut(whole, 1+from.below(200))
+		whole := from.Bytes(from.Below(1000))
+		parts := from.Cut(whole, 1+from.Below(200))
 		if d := digest(t, parts...); !bytes.Equal(d, library(whole)) {
 			t.Fatalf("Sum of %d bytes in %d parts: %x", len(whole), len(parts), d)
 		}

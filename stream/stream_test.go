@@ -10,43 +10,8 @@ import (
 	"testing"
 
 	"moneyer/api"
+	"moneyer/samples"
 )
-
-// source yields the same numbers in every run.
-type source uint64
-
-func (s *source) below(n int) int {
-	*s = *s*6364136223846793005 + 1442695040888963407
-	return int(uint64(*s>>33) % uint64(n))
-}
-
-// number yields numbers of all lengths from 0 to MaxInt.
-func (s *source) number() int {
-	n := s.below(1<<31)<<32 | s.below(1<<31)<<1 | s.below(2)
-	return n >> s.below(63)
-}
-
-func (s *source) bytes(n int) []byte {
-	b := make([]byte, n)
-	for i := range b {
-		b[i] = byte(s.below(256))
-	}
-	return b
-}
-
-// key yields keys of both sizes.
-func (s *source) key() []byte {
-	return s.bytes(16 + 16*s.below(2))
-}
-
-func unhex(t *testing.T, s string) []byte {
-	t.Helper()
-	b, err := hex.DecodeString(s)
-	if err != nil {
-		t.Fatal(err)
-	}
-	return b
-}
 
 func xor(t *testing.T, key []byte, nonce, at int, p []byte) []byte {
 	t.Helper()
@@ -121,7 +86,7 @@ func TestKnownPads(t *testing.T) {
 		{"f6d66d6bd52d59bb0796365879eff886c66dd51a5b6a99744b50590c87a23884", 0x00faac24c1585ef1, 0x5a43d87500000001, "f05f21183c91672b41e70a008c43bca6"},
 		{"f6d66d6bd52d59bb0796365879eff886c66dd51a5b6a99744b50590c87a23884", 0x00faac24c1585ef1, 0x5a43d87500000002, "a82179439b968b7d4d2999068f59b103"},
 	} {
-		if b := pad(t, unhex(t, c.key), c.nonce, c.block); hex.EncodeToString(b) != c.want {
+		if b := pad(t, samples.Hex(c.key), c.nonce, c.block); hex.EncodeToString(b) != c.want {
 			t.Errorf("Pad(%s, %x, %x): %x; want %s", c.key, c.nonce, c.block, b, c.want)
 		}
 	}
@@ -136,17 +101,17 @@ func isPad(t *testing.T, key []byte, nonce, block int) {
 }
 
 func TestPadsAgreeWithTheLibrary(t *testing.T) {
-	from := source(81)
+	from := samples.New(81)
 	for range 500 {
-		isPad(t, from.key(), from.number(), from.number())
+		isPad(t, from.CipherKey(), from.Number(), from.Number())
 	}
 }
 
 // Each bit of both numbers counts, and stands in its own place.
 func TestSingleBitsOfNumbers(t *testing.T) {
-	from := source(82)
+	from := samples.New(82)
 	for _, size := range []int{16, 32} {
-		key := from.bytes(size)
+		key := from.Bytes(size)
 		for bit := range 63 {
 			isPad(t, key, 1<<bit, 0)
 			isPad(t, key, 0, 1<<bit)
@@ -178,37 +143,28 @@ func TestWrongPads(t *testing.T) {
 			}
 		}
 	}
-	for _, key := range wrongKeys() {
+	for _, key := range samples.WrongKeys() {
 		if b, err := Pad(key, 0, 0); b != nil || err != api.ErrArg {
 			t.Errorf("Pad under %d bytes: % x, %d", len(key), b, err)
 		}
 	}
 }
 
-// wrongKeys returns keys of no size that aes takes, one of them with spare capacity for one.
-func wrongKeys() [][]byte {
-	keys := [][]byte{nil, {}, make([]byte, 32)[:15], make([]byte, 32)[:24]}
-	for _, size := range []int{1, 8, 15, 17, 24, 31, 33, 48, 64, 1 << 16} {
-		keys = append(keys, make([]byte, size))
-	}
-	return keys
-}
-
 // P7.2: Xor.
 
 func TestKnownXor(t *testing.T) {
 	// The first of RFC 3686, whose blocks are counted from 1.
-	x := xor(t, unhex(t, "ae6852f8121067cc4bf7a5765577f39e"), 0x30<<32, 16, []byte("Single block msg"))
+	x := xor(t, samples.Hex("ae6852f8121067cc4bf7a5765577f39e"), 0x30<<32, 16, []byte("Single block msg"))
 	if hex.EncodeToString(x) != "e4095d4fb7a7b3792d6175a3261311b8" {
 		t.Errorf("Xor: %x", x)
 	}
 }
 
 func TestXorAgreesWithTheDefinition(t *testing.T) {
-	from := source(84)
+	from := samples.New(84)
 	for range 300 {
-		key, nonce, at := from.key(), from.number(), from.below(200)
-		p := from.bytes(from.below(100))
+		key, nonce, at := from.CipherKey(), from.Number(), from.Below(200)
+		p := from.Bytes(from.Below(100))
 		if x := xor(t, key, nonce, at, p); !bytes.Equal(x, slowXor(t, key, nonce, at, p)) {
 			t.Fatalf("Xor(% x, %d, %d, % x): % x", key, nonce, at, p, x)
 		}
@@ -217,11 +173,11 @@ func TestXorAgreesWithTheDefinition(t *testing.T) {
 
 // All lengths and all places in a block.
 func TestXorAroundBlocks(t *testing.T) {
-	from := source(85)
+	from := samples.New(85)
 	for at := range 34 {
-		key, nonce := from.key(), from.number()
+		key, nonce := from.CipherKey(), from.Number()
 		for n := range 51 {
-			p := from.bytes(n)
+			p := from.Bytes(n)
 			if x := xor(t, key, nonce, at, p); !bytes.Equal(x, libraryXor(t, key, nonce, at, p)) {
 				t.Fatalf("Xor(% x, %d, %d, % x): % x", key, nonce, at, p, x)
 			}
@@ -230,10 +186,10 @@ func TestXorAroundBlocks(t *testing.T) {
 }
 
 func TestXorFarFromTheBeginning(t *testing.T) {
-	from := source(86)
+	from := samples.New(86)
 	for range 300 {
-		key, nonce, at := from.key(), from.number(), from.number()%(1<<40+1)
-		p := from.bytes(from.below(80))
+		key, nonce, at := from.CipherKey(), from.Number(), from.Number()%(1<<40+1)
+		p := from.Bytes(from.Below(80))
 		if x := xor(t, key, nonce, at, p); !bytes.Equal(x, libraryXor(t, key, nonce, at, p)) {
 			t.Fatalf("Xor(% x, %d, %d, % x): % x", key, nonce, at, p, x)
 		}
@@ -242,9 +198,9 @@ func TestXorFarFromTheBeginning(t *testing.T) {
 
 // The keystream is the XOR with zero bytes, block by block.
 func TestXorOfZerosIsThePads(t *testing.T) {
-	from := source(87)
+	from := samples.New(87)
 	for range 20 {
-		key, nonce, block := from.key(), from.number(), from.below(1<<31)
+		key, nonce, block := from.CipherKey(), from.Number(), from.Below(1<<31)
 		x := xor(t, key, nonce, 16*block, make([]byte, 80))
 		for i := range 5 {
 			if !bytes.Equal(x[16*i:16*i+16], pad(t, key, nonce, block+i)) {
@@ -266,10 +222,10 @@ func TestXorOfNothing(t *testing.T) {
 }
 
 func TestXorAtTheLimits(t *testing.T) {
-	from := source(88)
-	longest := from.bytes(api.MaxPlain)
+	from := samples.New(88)
+	longest := from.Bytes(api.MaxPlain)
 	for _, size := range []int{16, 32} {
-		key := from.bytes(size)
+		key := from.Bytes(size)
 		for _, at := range []int{0, 7, 1<<40 - 1, 1 << 40} {
 			for _, nonce := range []int{0, api.MaxInt} {
 				for _, p := range [][]byte{longest, longest[1:], longest[:1]} {
@@ -313,7 +269,7 @@ func TestWrongXor(t *testing.T) {
 			for _, nonce := range []int{-1, -1 << 40, api.MinInt} {
 				isWrong(t, make([]byte, 32), nonce, at, n, api.ErrArg)
 			}
-			for _, key := range wrongKeys() {
+			for _, key := range samples.WrongKeys() {
 				isWrong(t, key, 0, at, n, api.ErrArg)
 			}
 		}
@@ -322,17 +278,11 @@ func TestWrongXor(t *testing.T) {
 
 // P7.3: arguments, results and goroutines.
 
-// framed returns a copy of p that has bytes around it, and those bytes with it.
-func framed(p []byte) (part, whole []byte) {
-	whole = append(append([]byte("before"), p...), "and spare capacity behind it, enough for two blocks or more"...)
-	return whole[6 : 6+len(p)], whole
-}
-
 func TestArgumentsAreNotModified(t *testing.T) {
-	from := source(89)
+	from := samples.New(89)
 	for n := range 70 {
-		key, wholeKey := framed(from.key())
-		p, wholeBytes := framed(from.bytes(n))
+		key, wholeKey := samples.Framed(from.CipherKey())
+		p, wholeBytes := samples.Framed(from.Bytes(n))
 		beforeKey, beforeBytes := bytes.Clone(wholeKey), bytes.Clone(wholeBytes)
 		xor(t, key, n, n, p)
 		xor(t, key, n, n, key)
@@ -347,23 +297,15 @@ func TestArgumentsAreNotModified(t *testing.T) {
 	}
 }
 
-// spoil overwrites a result with its spare capacity.
-func spoil(b []byte) {
-	b = b[:cap(b)]
-	for i := range b {
-		b[i] = 0xee
-	}
-}
-
 func TestResultsAreNewMemory(t *testing.T) {
-	from := source(90)
+	from := samples.New(90)
 	for n := range 70 {
-		key, wholeKey := framed(from.key())
-		p, wholeBytes := framed(from.bytes(n))
+		key, wholeKey := samples.Framed(from.CipherKey())
+		p, wholeBytes := samples.Framed(from.Bytes(n))
 		beforeKey, beforeBytes := bytes.Clone(wholeKey), bytes.Clone(wholeBytes)
 		x, b := xor(t, key, 1, n, p), pad(t, key, 1, n)
-		spoil(xor(t, key, 1, n, p))
-		spoil(pad(t, key, 1, n))
+		samples.Spoil(xor(t, key, 1, n, p))
+		samples.Spoil(pad(t, key, 1, n))
 		if !bytes.Equal(wholeKey, beforeKey) || !bytes.Equal(wholeBytes, beforeBytes) {
 			t.Fatal("a result shares memory with an argument")
 		}
@@ -378,11 +320,11 @@ func TestResultsAreNewMemory(t *testing.T) {
 
 // Nothing is kept from call to call.
 func TestCallsDoNotTouchEachOther(t *testing.T) {
-	from := source(91)
-	key := from.bytes(16)
-	p := from.bytes(40)
+	from := samples.New(91)
+	key := from.Bytes(16)
+	p := from.Bytes(40)
 	want := libraryXor(t, key, 3, 5, p)
-	for _, other := range [][]byte{from.bytes(16), from.bytes(32), from.bytes(5)} {
+	for _, other := range [][]byte{from.Bytes(16), from.Bytes(32), from.Bytes(5)} {
 		Xor(other, 4, 70, p)
 		Pad(other, 3, 1)
 		if x := xor(t, key, 3, 5, p); !bytes.Equal(x, want) {
@@ -407,10 +349,10 @@ func TestXorTwice(t *testing.T) {
 	if y := xor(t, k, 1, 0, xor(t, k, 1, 0, []byte("abc"))); string(y) != "abc" {
 		t.Errorf("twice: %q", y)
 	}
-	from := source(92)
+	from := samples.New(92)
 	for range 300 {
-		key, nonce, at := from.key(), from.number(), from.number()%(1<<40+1)
-		p := from.bytes(from.below(150))
+		key, nonce, at := from.CipherKey(), from.Number(), from.Number()%(1<<40+1)
+		p := from.Bytes(from.Below(150))
 		x := xor(t, key, nonce, at, p)
 		if y := xor(t, key, nonce, at, x); !bytes.Equal(y, p) {
 			t.Fatalf("twice under % x, %d, at %d: % x; want % x", key, nonce, at, y, p)
@@ -422,14 +364,14 @@ func TestXorTwice(t *testing.T) {
 }
 
 func TestXorInParts(t *testing.T) {
-	from := source(93)
+	from := samples.New(93)
 	for range 100 {
-		key, nonce, at := from.key(), from.number(), from.below(100)
-		p := from.bytes(from.below(200))
+		key, nonce, at := from.CipherKey(), from.Number(), from.Below(100)
+		p := from.Bytes(from.Below(200))
 		want := xor(t, key, nonce, at, p)
 		var x []byte
 		for done := 0; done < len(p); {
-			n := from.below(min(len(p)-done, 40) + 1)
+			n := from.Below(min(len(p)-done, 40) + 1)
 			x = append(x, xor(t, key, nonce, at+done, p[done:done+n])...)
 			done += n
 		}
@@ -440,9 +382,9 @@ func TestXorInParts(t *testing.T) {
 }
 
 func TestXorInTwoPartsAtEachPlace(t *testing.T) {
-	from := source(94)
-	key, nonce := from.bytes(32), from.number()
-	p := from.bytes(50)
+	from := samples.New(94)
+	key, nonce := from.Bytes(32), from.Number()
+	p := from.Bytes(50)
 	for _, at := range []int{0, 5, 1<<40 - 50} {
 		want := xor(t, key, nonce, at, p)
 		for cut := range len(p) + 1 {
@@ -456,10 +398,10 @@ func TestXorInTwoPartsAtEachPlace(t *testing.T) {
 
 // Different nonces and different keys have different keystreams.
 func TestKeystreamsDiffer(t *testing.T) {
-	from := source(95)
+	from := samples.New(95)
 	seen := map[string]bool{}
 	for range 20 {
-		key := from.key()
+		key := from.CipherKey()
 		for nonce := range 5 {
 			for block := range 5 {
 				b := string(pad(t, key, nonce, block))
