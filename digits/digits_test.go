@@ -11,22 +11,6 @@ import (
 	"moneyer/samples"
 )
 
-// slowLuhn follows the document's words, from the end of the string.
-func slowLuhn(s string) int {
-	sum := 0
-	for position := 0; position < len(s); position++ {
-		d := int(s[len(s)-1-position] - '0')
-		if position%2 == 1 {
-			d *= 2
-			if d > 9 {
-				d -= 9
-			}
-		}
-		sum += d
-	}
-	return sum
-}
-
 // badStrings are no digit strings; each comes with what is wrong with it.
 func badStrings() map[string]api.Errno {
 	bad := map[string]api.Errno{
@@ -222,8 +206,8 @@ func TestLuhnMakesValidStrings(t *testing.T) {
 		}
 		for last := range 10 {
 			whole := s + string(rune('0'+last))
-			if (slowLuhn(whole)%10 == 0) != (last == d) {
-				t.Fatalf("Luhn(%s): %d, but the sum of %s is %d", short(s), d, short(whole), slowLuhn(whole))
+			if (samples.LuhnSum(whole)%10 == 0) != (last == d) {
+				t.Fatalf("Luhn(%s): %d, but the sum of %s is %d", short(s), d, short(whole), samples.LuhnSum(whole))
 			}
 			// One digit more than MaxDigits is no digit string.
 			if got := Valid(whole); got != (last == d && n < api.MaxDigits) {

@@ -94,19 +94,6 @@ func short(s string) string {
 	return fmt.Sprintf("%q", s)
 }
 
-// luhnSum follows the words of the chapter on digits, from the end of the string.
-func luhnSum(s string) int {
-	sum := 0
-	for position := range len(s) {
-		weight := int(s[len(s)-1-position]-'0') * (1 + position%2)
-		if weight > 9 {
-			weight -= 9
-		}
-		sum += weight
-	}
-	return sum
-}
-
 func masks(t *testing.T, s, want string) {
 	t.Helper()
 	if m := Mask(s); m != want {
@@ -190,7 +177,7 @@ func TestOneCheckDigitOfTen(t *testing.T) {
 			ahead := from.Digits(n - 1)
 			for last := range 10 {
 				s := ahead + strconv.Itoa(last)
-				if got, want := Is(s), luhnSum(s)%10 == 0; got != want {
+				if got, want := Is(s), samples.LuhnSum(s)%10 == 0; got != want {
 					t.Errorf("Is(%q): %v", s, got)
 				}
 			}
@@ -398,7 +385,7 @@ func TestNearStrings(t *testing.T) {
 			s = s[:at] + string(".0 x"[from.Below(4)]) + s[at+from.Below(2):]
 		}
 		masks(t, s, slowMask(s))
-		if want := shapedForm.MatchString(s) && luhnSum(s)%10 == 0; Is(s) != want {
+		if want := shapedForm.MatchString(s) && samples.LuhnSum(s)%10 == 0; Is(s) != want {
 			t.Errorf("Is(%q): %v", s, !want)
 		}
 		if m := tokenForm.FindStringSubmatch(s); m == nil {

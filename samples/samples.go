@@ -47,6 +47,25 @@ func (s *Source) Digits(n int) string {
 	return string(b)
 }
 
+// Card yields a card number of n digits.
+func (s *Source) Card(n int) string {
+	ahead := s.Digits(n - 1)
+	return ahead + strconv.Itoa((10-LuhnSum(ahead+"0")%10)%10)
+}
+
+// LuhnSum returns the Luhn sum of digits: the words of the chapter on digits, written down a second time.
+func LuhnSum(digits string) int {
+	sum := 0
+	for position := range len(digits) {
+		weight := int(digits[len(digits)-1-position]-'0') * (1 + position%2)
+		if weight > 9 {
+			weight -= 9
+		}
+		sum += weight
+	}
+	return sum
+}
+
 // Cut divides bytes into parts of up to most bytes, some of them empty.
 func (s *Source) Cut(whole []byte, most int) [][]byte {
 	parts := [][]byte{nil}
